@@ -1,0 +1,1 @@
+"""Handround: how many have to trade at once."""

@@ -1,0 +1,49 @@
+"""Events, logs and their parts as strings."""
+
+NOTHING = "-"
+
+
+def event_line(event):
+    return " ".join([event[0]] + words_after(event))
+
+
+def words_after(event):
+    word, value = event[0], event[1]
+    if word == "trade":
+        return [ring_word(value)]
+    if word == "accept" or word == "refuse":
+        return [pair_word(value)]
+    if word == "goal":
+        return [goal_word(value)]
+    if word == "sizes":
+        return [sizes_word(value)]
+    return list(event[1:])
+
+
+def log_lines(log):
+    return [beginning_line(log[0])] + [event_line(event) for event in log[1:]]
+
+
+def beginning_line(beginning):
+    word, accepts, holding, sizes, goal = beginning
+    return " ".join([word, sizes_word(sizes), goal_word(goal), pairs_word(holding), pairs_word(accepts)])
+
+
+def ring_word(ring):
+    return ">".join(ring)
+
+
+def pair_word(pair):
+    return ":".join(pair)
+
+
+def pairs_word(pairs):
+    return ",".join([pair_word(pair) for pair in pairs])
+
+
+def goal_word(goal):
+    return NOTHING if goal is None else pairs_word(goal)
+
+
+def sizes_word(sizes):
+    return ",".join([str(size) for size in sizes]) or NOTHING

@@ -1,21 +1,17 @@
 """The checker of accepts: it confirms without searching."""
 
-from handround.errors import InvalidPaper
 from handround.holdings import items_of, people_of
-from handround.kinds import is_pair
+from handround.papers import is_tuple_of_pairs, raise_fault
 
 
 def lets_accepts(thing):
-    fault = fault_of_accepts(thing)
-    if fault is not None:
-        word, at = fault
-        raise InvalidPaper(word, at)
+    raise_fault(fault_of_accepts(thing))
     return len(people_of(thing))
 
 
 def fault_of_accepts(thing):
     """The word and the place of the first fault, or None if it is accepts."""
-    if not isinstance(thing, tuple) or not all([is_pair(pair) for pair in thing]):
+    if not is_tuple_of_pairs(thing):
         return ("shape", -1)
     if len(thing) == 0:
         return ("empty", -1)

@@ -14,8 +14,11 @@ def distance(accepts, begin, goal, *, sizes=(2,)):
 
 def least_row(accepts, begin, goal, *, sizes=(2,)):
     steps = steps_to(accepts, begin, goal, sizes)
-    if goal not in steps:
-        return None
+    return row_along(steps, begin, goal) if goal in steps else None
+
+
+def row_along(steps, begin, goal):
+    """The row to the goal, of which steps has for each holding the last step that leads there."""
     rings = []
     holding = goal
     while holding != begin:
@@ -35,6 +38,25 @@ def steps_to(accepts, begin, goal, sizes):
     while at < len(queue) and goal not in steps:
         holding = queue[at]
         for ring in trades_in(accepts, holding, sizes=sizes):
+            after = moved(holding, ring)
+            if after not in steps:
+                steps[after] = (holding, ring)
+                queue.append(after)
+        at += 1
+    return steps
+
+
+def steps_by(rings_from, begin, goal):
+    """The steps as of steps_to, with the rings that rings_from returns for a holding.
+
+    steps_to does not go through it: what a property runs may not call what it is passed.
+    """
+    steps = {begin: None}
+    queue = [begin]
+    at = 0
+    while at < len(queue) and goal not in steps:
+        holding = queue[at]
+        for ring in rings_from(holding):
             after = moved(holding, ring)
             if after not in steps:
                 steps[after] = (holding, ring)

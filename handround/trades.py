@@ -38,6 +38,10 @@ def moved(holding, ring):
     return tuple([(person, got.get(person, item)) for person, item in holding])
 
 
+def effort_of(row):
+    return sum([len(ring) - 1 for ring in row])
+
+
 def trades_in(accepts, holding, *, sizes=(2,)):
     takers = takers_of(accepts, holding)
     if sizes:

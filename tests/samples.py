@@ -12,6 +12,10 @@ MORE = (
 )
 # Two people with two items that both accept.
 BOTH = (("ann", "bed"), ("ann", "cot"), ("bob", "bed"), ("bob", "cot"))
+# THREE with dan, who accepts everything: with his help two at once suffice, by a detour.
+HELPED = tuple(sorted(THREE + (("ann", "elm"), ("dan", "bed"), ("dan", "cot"), ("dan", "den"), ("dan", "elm"))))
+FIRST_HELPED = FIRST + (("dan", "elm"),)
+LAST_HELPED = LAST + (("dan", "elm"),)
 # cy accepts an item that nobody can spare: there is no holding.
 NONE = (("ann", "bed"), ("bob", "bed"), ("bob", "cot"), ("bob", "den"), ("cy", "bed"))
 # People and items have the same names, of one and of eight letters.
@@ -96,6 +100,14 @@ def handed(holding, ring):
     for place, person in enumerate(ring):
         after[ring[(place + 1) % len(ring)]] = dict(holding)[person]
     return after
+
+
+def after_rings(many, *rings):
+    """What so many people hold after these rings, who held the items of the plain holding."""
+    holding = plain(many)
+    for ring in rings:
+        holding = tuple(sorted(handed(holding, ring).items()))
+    return holding
 
 
 def all_steps(accepts, holding, sizes):

@@ -42,8 +42,20 @@ FUNCTIONS = {
     },
     "effortpapers": {"effort_paper": "accepts begin goal * sizes"},
     "effortchecker": {"lets_effort": "accepts begin goal thing * sizes"},
+    "groups": {
+        "with_group": "accepts begin goal group * sizes", "least_groups": "accepts begin goal * sizes",
+        "least_helpers": "accepts begin goal * sizes", "groups_for": "accepts begin person item * sizes",
+    },
+    "groupchecker": {"lets_group": "accepts begin goal group thing * sizes"},
+    "likes": {"lets_likes": "accepts thing", "rank_of": "likes person item"},
+    "fairness": {
+        "is_fair": "accepts likes holding ring", "fair_trades": "accepts likes holding * sizes",
+        "is_settled": "accepts likes holding * sizes",
+    },
+    "endpapers": {"end_paper": "accepts likes begin goal * sizes"},
+    "endchecker": {"lets_end": "accepts likes begin goal thing * sizes"},
 }
-GENERATORS = {"holdings_of", "trades_in", "rows_within", "direct_trades"}
+GENERATORS = {"holdings_of", "trades_in", "rows_within", "direct_trades", "fair_trades"}
 
 
 def written(function):

@@ -2,10 +2,11 @@
 
 from handround.holdings import accepted_by, people_of
 from handround.kinds import all_differ, is_pairs
+from handround.orders import ascending, least
 
 
 def is_bare(accepts, thing):
-    if not is_pairs(thing) or len(thing) < 2 or thing[0] != min(thing) or not is_lesser(thing):
+    if not is_pairs(thing) or len(thing) < 2 or thing[0] != least(thing) or not is_lesser(thing):
         return False
     people = [person for person, _ in thing]
     items = [item for _, item in thing]
@@ -13,7 +14,7 @@ def is_bare(accepts, thing):
         return False
     nearest = items[1:] + items[:1]
     return all([
-        accepted_of(accepts, person, items) == sorted([own, other])
+        accepted_of(accepts, person, items) == ascending([own, other])
         for person, own, other in zip(people, items, nearest)
     ])
 
@@ -24,7 +25,7 @@ def is_lesser(pairs):
 
 
 def accepted_of(accepts, person, items):
-    return [item for other, item in accepts if other == person and item in items]
+    return tuple([item for other, item in accepts if other == person and item in items])
 
 
 def bare_rings(accepts):
@@ -32,7 +33,7 @@ def bare_rings(accepts):
     found = []
     for pair in accepts:
         found.extend([ring for ring in bare_after(wants, (pair,)) if is_lesser(ring)])
-    return tuple(sorted(found))
+    return ascending(found)
 
 
 def bare_after(wants, begun):

@@ -3,7 +3,8 @@
 from handround.errors import InvalidRow, InvalidText
 from handround.eventkinds import is_whole_log
 from handround.eventreadings import BEGINNING, read_event, read_log
-from handround.eventtexts import NOTHING, event_line, goal_word, pairs_word, ring_word, sizes_word
+from handround.eventtexts import event_line, goal_word, pairs_word, sizes_word
+from handround.ringtexts import ring_text, row_text
 from handround.watching import Market
 
 NO_ANSWER = "none"
@@ -77,7 +78,7 @@ def told_of(market, row):
     if row == "width":
         return number_word(market.width_to_goal)
     if row == "trades":
-        return " ".join([ring_word(ring) for ring in market.trades()]) or NOTHING
+        return row_text(list(market.trades()))
     if row == "advice":
         return advice_word(market.advice())
     if row == "table":
@@ -90,4 +91,4 @@ def number_word(number):
 
 
 def advice_word(ring):
-    return NO_ANSWER if ring is None else ring_word(ring)
+    return NO_ANSWER if ring is None else ring_text(ring)

@@ -1,11 +1,13 @@
 """The rings in which items have to go from one holding to another."""
 
+from handround.orders import least
+
 
 def difference(begin, goal):
     takers = takers_between(begin, goal)
     rings = [ring_from(takers, person) for person in takers]
     # Each of its people gives the same ring once more; it is written from the least one.
-    return tuple([ring for ring in rings if len(ring) > 1 and ring[0] == min(ring)])
+    return tuple([ring for ring in rings if len(ring) > 1 and ring[0] == least(ring)])
 
 
 def takers_between(begin, goal):

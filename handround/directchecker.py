@@ -6,14 +6,15 @@ from handround.papers import fault_of_closed, fault_of_row, is_allowed, is_close
 
 
 def lets_direct(accepts, begin, goal, thing, *, sizes=(2,)):
-    def may_go(holding, ring):
-        return is_allowed(ring, sizes) and is_direct_trade(accepts, holding, goal, ring)
+    def word_against(holding, ring):
+        may_go = is_allowed(ring, sizes) and is_direct_trade(accepts, holding, goal, ring)
+        return None if may_go else "trade"
 
     def rings_from(holding):
         return list(direct_trades(accepts, holding, goal, sizes=sizes))
 
     if is_row_paper(thing):
-        raise_fault(fault_of_row(begin, goal, thing[1], "trade", may_go))
+        raise_fault(fault_of_row(begin, goal, thing[1], word_against))
         return True
     if is_closed_paper(thing):
         raise_fault(fault_of_closed(accepts, begin, goal, thing[1], "leaves", rings_from))

@@ -10,15 +10,16 @@ from handround.trades import bar_of, effort_of, moved, trades_in
 
 
 def lets_effort(accepts, begin, goal, thing, *, sizes=(2,)):
-    def may_go(holding, ring):
-        return is_allowed(ring, sizes) and bar_of(accepts, holding, ring) is None
+    def word_against(holding, ring):
+        may_go = is_allowed(ring, sizes) and bar_of(accepts, holding, ring) is None
+        return None if may_go else "trade"
 
     def rings_from(holding):
         return list(trades_in(accepts, holding, sizes=sizes))
 
     if is_effort_paper(thing):
         rings, marks = thing[1], thing[2]
-        raise_fault(fault_of_row(begin, goal, rings, "trade", may_go))
+        raise_fault(fault_of_row(begin, goal, rings, word_against))
         raise_fault(fault_of_holdings(accepts, [mark[0] for mark in marks]))
         raise_fault(fault_of_marks(begin, goal, effort_of(rings), marks, rings_from))
         return effort_of(rings)

@@ -1,6 +1,7 @@
 """Papers of least efforts."""
 
 from handround.efforts import costs_to
+from handround.orders import ascending
 from handround.papers import closed_paper
 from handround.reaching import row_along
 
@@ -11,5 +12,5 @@ def effort_paper(accepts, begin, goal, *, sizes=(2,)):
     if goal not in costs:
         return closed_paper(costs)
     steps = {holding: costs[holding][1] for holding in costs}
-    marks = sorted([(holding, costs[holding][0]) for holding in costs])
-    return ("effort", row_along(steps, begin, goal), tuple(marks))
+    marks = ascending([(holding, costs[holding][0]) for holding in costs])
+    return ("effort", row_along(steps, begin, goal), marks)

@@ -11,11 +11,14 @@ def lets_end(accepts, likes, begin, goal, thing, *, sizes=(2,)):
     def may_go(holding, ring):
         return is_allowed(ring, sizes) and is_fair(accepts, likes, holding, ring)
 
+    def word_against(holding, ring):
+        return None if may_go(holding, ring) else "ring"
+
     def rings_from(holding):
         return list(fair_trades(accepts, likes, holding, sizes=sizes))
 
     if is_row_paper(thing):
-        raise_fault(fault_of_row(begin, goal, thing[1], "ring", may_go))
+        raise_fault(fault_of_row(begin, goal, thing[1], word_against))
         raise_fault(fault_of_end(rings_from(goal)))
         return True
     if is_open_paper(thing):

@@ -1,8 +1,9 @@
 """Strings read as events and as logs."""
 
 from handround.errors import InvalidText
-from handround.eventtexts import NOTHING
 from handround.kinds import is_name, is_pair, is_ring, is_sizes
+from handround.ringreadings import pair_of, ring_of
+from handround.ringtexts import NOTHING
 
 BEGINNING = "market"
 BEGINNING_FORMS = ("sizes", "goal", "pairs", "pairs")
@@ -67,7 +68,7 @@ def found_in(word, form):
     if form == "pair":
         return pair_in(word)
     if form == "ring":
-        ring = tuple(word.split(">"))
+        ring = ring_of(word)
         return [ring] if is_ring(ring) else []
     if form == "sizes":
         return sizes_in(word)
@@ -77,7 +78,7 @@ def found_in(word, form):
 
 
 def pair_in(word):
-    pair = tuple(word.split(":"))
+    pair = pair_of(word)
     return [pair] if is_pair(pair) else []
 
 

@@ -1,6 +1,6 @@
 """Events, logs and their parts as strings."""
 
-NOTHING = "-"
+from handround.ringtexts import NOTHING, pair_text, ring_text
 
 
 def event_line(event):
@@ -10,9 +10,9 @@ def event_line(event):
 def words_after(event):
     word, value = event[0], event[1]
     if word == "trade":
-        return [ring_word(value)]
+        return [ring_text(value)]
     if word == "accept" or word == "refuse":
-        return [pair_word(value)]
+        return [pair_text(value)]
     if word == "goal":
         return [goal_word(value)]
     if word == "sizes":
@@ -29,16 +29,8 @@ def beginning_line(beginning):
     return " ".join([word, sizes_word(sizes), goal_word(goal), pairs_word(holding), pairs_word(accepts)])
 
 
-def ring_word(ring):
-    return ">".join(ring)
-
-
-def pair_word(pair):
-    return ":".join(pair)
-
-
 def pairs_word(pairs):
-    return ",".join([pair_word(pair) for pair in pairs])
+    return ",".join([pair_text(pair) for pair in pairs])
 
 
 def goal_word(goal):

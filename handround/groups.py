@@ -3,7 +3,9 @@
 from handround.differences import difference
 from handround.errors import UnknownPair, UnknownPerson
 from handround.holdings import people_of
-from handround.reaching import distance, reachable
+from handround.orders import ascending
+from handround.reaching import distance, reachable, steps_by
+from handround.trades import trades_in
 
 
 def with_group(accepts, begin, goal, group, *, sizes=(2,)):
@@ -24,6 +26,21 @@ def check_group(accepts, group):
 
 def own_pairs(pairs, group):
     return tuple([pair for pair in pairs if pair[0] in group])
+
+
+def rings_of_group(accepts, holding, group, sizes):
+    """The allowed possible rings of the group, ascending."""
+    own_accepts = own_pairs(accepts, group)
+    own_holding = own_pairs(holding, group)
+    return list(trades_in(own_accepts, own_holding, sizes=sizes))
+
+
+def group_steps(accepts, begin, goal, group, sizes):
+    """The steps, as of steps_by, of trades of the group."""
+    def rings_from(holding):
+        return rings_of_group(accepts, holding, group, sizes)
+
+    return steps_by(rings_from, begin, goal)
 
 
 def least_groups(accepts, begin, goal, *, sizes=(2,)):
@@ -66,11 +83,11 @@ def others_than(accepts, group):
 
 
 def joined(people, helpers):
-    return tuple(sorted([*people, *helpers]))
+    return ascending([*people, *helpers])
 
 
 def groups_with(people, parts):
-    return tuple(sorted([joined(people, part) for part in parts]))
+    return ascending([joined(people, part) for part in parts])
 
 
 def minimal_parts(things, are_enough):
@@ -79,7 +96,7 @@ def minimal_parts(things, are_enough):
     for part in parts_of(things):
         if not any([is_part(known, part) for known in found]) and are_enough(part):
             found.append(part)
-    return tuple(sorted(found))
+    return ascending(found)
 
 
 def parts_of(things):

@@ -2,14 +2,15 @@
 
 from handround.errors import UnknownPerson
 from handround.kinds import all_differ, is_pairs
+from handround.orders import ascending
 
 
 def people_of(accepts):
-    return tuple(sorted({person for person, _ in accepts}))
+    return ascending([person for person, _ in accepts])
 
 
 def items_of(accepts):
-    return tuple(sorted({item for _, item in accepts}))
+    return ascending([item for _, item in accepts])
 
 
 def accepted_by(accepts, person):

@@ -1,5 +1,7 @@
 """Kinds of values, told by the value alone: any value is accepted."""
 
+from handround.orders import least
+
 LETTERS = "abcdefghijklmnopqrstuvwxyz"
 MOST_LETTERS = 8
 
@@ -25,9 +27,12 @@ def is_people(thing):
 
 
 def is_ring(thing):
-    if not isinstance(thing, tuple) or len(thing) < 2 or not are_names(thing):
-        return False
-    return all_differ(thing) and thing[0] == min(thing)
+    return is_round(thing) and thing[0] == least(thing)
+
+
+def is_round(thing):
+    """Whether it is a tuple of two or more different names: a ring but for the one with whom it begins."""
+    return isinstance(thing, tuple) and len(thing) >= 2 and are_names(thing) and all_differ(thing)
 
 
 def is_row(thing):

@@ -2,7 +2,8 @@
 
 from handround.errors import InvalidPaper, UnknownPair
 from handround.holdings import accepted_by, people_of
-from handround.kinds import is_name
+from handround.kinds import all_differ, is_name
+from handround.orders import ascending
 from handround.papers import is_tuple_of_names
 
 
@@ -13,7 +14,7 @@ def lets_likes(accepts, thing):
     if tuple([person for person, _ in thing]) != people:
         raise InvalidPaper("people", -1)
     for at, (person, items) in enumerate(thing):
-        if tuple(sorted(items)) != accepted_by(accepts, person):
+        if not all_differ(items) or ascending(items) != accepted_by(accepts, person):
             raise InvalidPaper("items", at)
     return len(people)
 

@@ -3,6 +3,7 @@
 from handround.errors import InvalidEvent
 from handround.eventkinds import is_goal
 from handround.holdings import items_of, people_of
+from handround.orders import ascending
 from handround.trades import bar_of, moved
 
 
@@ -89,7 +90,7 @@ def bar_of_leave(state, person):
 
 
 def with_pair(pairs, pair):
-    return tuple(sorted([*pairs, pair]))
+    return ascending([*pairs, pair])
 
 
 def without_pair(pairs, pair):

@@ -3,11 +3,20 @@
 from handround.errors import InvalidPaper
 from handround.holdings import is_holding
 from handround.kinds import are_names, is_pair, is_ring
+from handround.orders import ascending
+from handround.reaching import row_along
 from handround.trades import moved
 
 
+def paper_of(steps, begin, goal):
+    """The paper that the steps, as of steps_by, give: a row, or all that can be reached if the goal cannot."""
+    if goal in steps:
+        return ("row", row_along(steps, begin, goal))
+    return closed_paper(steps)
+
+
 def closed_paper(holdings):
-    return ("closed", tuple(sorted(list(holdings))))
+    return ("closed", ascending(holdings))
 
 
 def is_row_paper(thing):
@@ -49,11 +58,12 @@ def raise_fault(fault):
         raise InvalidPaper(word, at)
 
 
-def fault_of_row(begin, goal, rings, word, may_go):
-    """The fault with this word where a ring may not go, by the holding then, or "goal"."""
+def fault_of_row(begin, goal, rings, word_against):
+    """The fault with the word against a ring in the holding then, if there is one, or "goal"."""
     holding = begin
     for at, ring in enumerate(rings):
-        if not may_go(holding, ring):
+        word = word_against(holding, ring)
+        if word is not None:
             return (word, at)
         holding = moved(holding, ring)
     return None if holding == goal else ("goal", -1)

@@ -1,10 +1,11 @@
 """What can be reached by rows of allowed rings, and how fast."""
 
+from handround.orders import ascending
 from handround.trades import moved, trades_in
 
 
 def reachable(accepts, holding, *, sizes=(2,)):
-    return tuple(sorted(list(steps_to(accepts, holding, None, sizes))))
+    return ascending(steps_to(accepts, holding, None, sizes))
 
 
 def distance(accepts, begin, goal, *, sizes=(2,)):

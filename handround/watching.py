@@ -3,10 +3,11 @@
 from handround.errors import InvalidEvent, InvalidGoal, InvalidText, NothingToUndo, UnknownPerson
 from handround.eventkinds import is_event, is_goal, is_whole_log
 from handround.eventreadings import read_log
-from handround.eventtexts import NOTHING, event_line
+from handround.eventtexts import event_line
 from handround.holdings import accepted_by, item_of, people_of
 from handround.marketstates import state_after
 from handround.reaching import distance, least_row
+from handround.ringtexts import NOTHING
 from handround.trades import trades_in
 from handround.widths import width
 

@@ -6,6 +6,8 @@ from inspect import isgenerator
 from handround.errors import InvalidPaper, RoundError
 from tests.papermodel import kinds
 
+DEFAULTS = (("sizes", (2,)), ("most", None))
+
 
 def answer(function, *given, **named):
     """What is returned, with its kinds, or the error with its fields; a generator as all that it yields."""
@@ -18,13 +20,14 @@ def answer(function, *given, **named):
 
 def asked(test, function, given, **named):
     """The answer, after it has turned out to be the same by position, by name and once more, with the
-    arguments as they were. given has the arguments by name, named those that are passed by name only."""
+    arguments as they were, and without those that are as if left out. given has the arguments by name, named
+    those that are passed by name only."""
     before = kinds([deepcopy(list(given.values())), deepcopy(list(named.values()))])
     found = answer(function, *given.values(), **named)
     test.assertEqual(answer(function, **given, **named), found)
     test.assertEqual(answer(function, *given.values(), **named), found)
-    if named.get("sizes") == (2,):
-        test.assertEqual(answer(function, *given.values()), found)
+    left = {name: value for name, value in named.items() if (name, value) not in DEFAULTS}
+    test.assertEqual(answer(function, *given.values(), **left), found)
     test.assertEqual(kinds([list(given.values()), list(named.values())]), before)
     return found
 

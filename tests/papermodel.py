@@ -95,6 +95,19 @@ def reached(begin, steps_of):
     return found
 
 
+def row_or_closed(begin, goal, steps_of):
+    """A paper found by the words: with a row of fewest steps, or with all that such steps lead to."""
+    rows = {begin: ()}
+    news = [begin]
+    while news:
+        at = news.pop(0)
+        for ring, after in steps_of(at):
+            if after not in rows:
+                rows[after] = rows[at] + (ring,)
+                news.append(after)
+    return ("row", rows[goal]) if goal in rows else ("closed", tuple(sorted(rows)))
+
+
 def efforts(accepts, begin, sizes):
     """The least efforts of all that can be reached, made less until no trade makes one less."""
     steps = {one: all_steps(accepts, one, sizes) for one in all_holdings(accepts)}
@@ -244,6 +257,33 @@ def told_end(accepts, likes, begin, goal, thing, sizes):
         return ("true", False) if thing[1] in dict(steps_of(goal)) else ("fair", -1)
     if is_closed(thing):
         return closed_fault(accepts, begin, goal, thing[1], "trade", steps_of) or ("true", False)
+    return ("shape", -1)
+
+
+def reach_row_fault(accepts, begin, goal, rings, sizes):
+    holding = begin
+    for at, ring in enumerate(rings):
+        if len(set(ring)) < len(ring) or len(ring) < 2 or ring[0] != min(ring) or len(ring) not in sizes:
+            return ("ring", at)
+        after = dict(all_steps(accepts, holding, sizes))
+        if ring not in after:
+            return ("possible", at)
+        holding = after[ring]
+    return None if holding == goal else ("goal", -1)
+
+
+def reach_closed_fault(accepts, begin, goal, holdings, sizes):
+    fault = closed_fault(accepts, begin, goal, holdings, "open", lambda holding: all_steps(accepts, holding, sizes))
+    if fault is not None and fault[0] == "rise":
+        return ("holding", fault[1])
+    return ("open", fault[1][0]) if fault is not None and fault[0] == "open" else fault
+
+
+def told_reach(accepts, begin, goal, thing, sizes):
+    if is_row(thing):
+        return reach_row_fault(accepts, begin, goal, thing[1], sizes) or ("true", True)
+    if is_closed(thing):
+        return reach_closed_fault(accepts, begin, goal, thing[1], sizes) or ("true", False)
     return ("shape", -1)
 
 

@@ -7,8 +7,8 @@ from handround.groupchecker import lets_group
 from handround.groups import with_group
 from tests.calls import asked, checked, raises
 from tests.papermodel import (
-    NO_HOLDINGS, NO_NAMES, NO_PAIRS, NO_PAPERS, NO_RINGS, cases, group_steps, parts, pool_of, reached, told, told_group,
-    wrong_papers,
+    NO_HOLDINGS, NO_NAMES, NO_PAIRS, NO_PAPERS, NO_RINGS, cases, group_steps, parts, pool_of, reached, row_or_closed,
+    told, told_group, wrong_papers,
 )
 from tests.samples import (
     ANY, FIRST, FIRST_HELPED, HELPED, HUGE, LAST, LAST_HELPED, MORE, PEOPLE, STRANGE, THREE, after_rings, all_holdings,
@@ -23,16 +23,7 @@ HELP = (("ann", "dan"), ("cy", "dan"), ("bob", "dan"), ("ann", "dan"))
 
 
 def right_paper(accepts, begin, goal, group, sizes):
-    """A group paper, found by the words: with a row of fewest trades, or with all that can be reached."""
-    rows = {begin: ()}
-    news = [begin]
-    while news:
-        at = news.pop(0)
-        for ring, after in group_steps(accepts, at, group, sizes):
-            if after not in rows:
-                rows[after] = rows[at] + (ring,)
-                news.append(after)
-    return ("row", rows[goal]) if goal in rows else ("closed", tuple(sorted(rows)))
+    return row_or_closed(begin, goal, lambda holding: group_steps(accepts, holding, group, sizes))
 
 
 class CheckerTests(unittest.TestCase):

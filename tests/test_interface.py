@@ -54,6 +54,48 @@ FUNCTIONS = {
     },
     "endpapers": {"end_paper": "accepts likes begin goal * sizes"},
     "endchecker": {"lets_end": "accepts likes begin goal thing * sizes"},
+    "ringtexts": {"ring_text": "ring", "row_text": "row", "holding_text": "holding", "accepts_text": "accepts"},
+    "ringreadings": {"ring_read": "text", "row_read": "text", "holding_read": "text", "accepts_read": "text"},
+    "grouppapers": {"group_paper": "accepts begin goal group * sizes"},
+    "reachchecker": {"lets_reach": "accepts begin goal thing * sizes"},
+    "offers": {
+        "lets_offers": "accepts thing", "offers_reaching": "accepts begin goal offers * most sizes",
+    },
+    "ends": {
+        "ends_of": "accepts likes holding * sizes", "best_end_for": "accepts likes holding person * sizes",
+        "longest_ring": "accepts",
+    },
+}
+# The methods that stand in the class itself, by their parameters; properties and class values have none.
+CLASSES = {
+    "handings": {
+        "Handing": {
+            "__init__": "self *rings", "MOST": None, "rings": None, "people": None, "effort": None, "parity": None,
+            "detour": None, "__mul__": "self other", "__neg__": "self", "__pow__": "self other",
+            "__eq__": "self other", "__lt__": "self other", "__le__": "self other", "__contains__": "self person",
+            "__getitem__": "self person", "__len__": "self", "__bool__": "self", "__call__": "self holding",
+            "powers": "self", "__str__": "self", "between": "begin goal", "read": "text",
+        },
+        "Ring": {"__init__": "self *people", "read": "text"},
+        "Swap": {"__init__": "self one other"},
+        "Still": {"__init__": "self"},
+        "Row": {
+            "__init__": "self *handings", "parts": None, "effort": None, "detour": None, "__str__": "self",
+            "read": "text",
+        },
+    },
+    "watching": {
+        "Market": {
+            "__init__": "self accepts holding * sizes goal", "MOST": None, "accepts": None, "holding": None,
+            "sizes": None, "goal": None, "distance_to_goal": None, "width_to_goal": None, "set_goal": "self value",
+            "set_sizes": "self value", "trade": "self ring", "accept": "self pair", "refuse": "self pair",
+            "enter": "self person item", "leave": "self person", "go": "self event", "__call__": "self ring",
+            "__getitem__": "self person", "__contains__": "self person", "__len__": "self", "__eq__": "self other",
+            "tried": "self *events", "undo": "self", "do_all": "self *events * keep", "counts": "self",
+            "advice": "self", "trades": "self", "table": "self", "log": "self", "__str__": "self", "read": "text",
+        },
+    },
+    "desk": {"Desk": {"__init__": "self", "say": "self row", "counts": "self"}},
 }
 GENERATORS = {"holdings_of", "trades_in", "rows_within", "direct_trades", "fair_trades"}
 
@@ -83,11 +125,31 @@ class InterfaceTests(unittest.TestCase):
             defaults = {parameter.name: parameter.default
                         for parameter in inspect.signature(function).parameters.values()
                         if parameter.default is not parameter.empty}
-            self.assertEqual(defaults, {"sizes": (2,)} if "sizes" in parameters else {}, function)
+            expected = {"sizes": (2,), "most": None} if "* most" in parameters else {"sizes": (2,)}
+            self.assertEqual(defaults, expected if "sizes" in parameters else {}, function)
 
     def test_files(self):
         for function, module, parameters in self.functions():
             self.assertEqual(function.__module__, module)
+
+    def test_classes(self):
+        for module, classes in CLASSES.items():
+            for name, members in classes.items():
+                made = getattr(importlib.import_module(f"handround.{module}"), name)
+                self.assertEqual(made.__module__, f"handround.{module}")
+                for member, parameters in members.items():
+                    self.assertIn(member, vars(made), name)
+                    if parameters is not None:
+                        self.assertEqual(written(getattr(made, member)), parameters, (name, member))
+                    elif member != "MOST":
+                        self.assertIsInstance(vars(made)[member], property, (name, member))
+
+    def test_class_methods(self):
+        handings = importlib.import_module("handround.handings")
+        self.assertIsInstance(vars(handings.Handing)["between"], staticmethod)
+        for made in (handings.Handing, handings.Ring, handings.Row):
+            self.assertIsInstance(vars(made)["read"], classmethod)
+        self.assertTrue(inspect.isgeneratorfunction(handings.Handing.powers))
 
     def test_generators(self):
         for function, module, parameters in self.functions():

@@ -32,6 +32,9 @@ BARRED_NODES = (
     ast.Global, ast.AsyncFunctionDef, ast.AsyncFor, ast.AsyncWith, ast.Await, ast.GeneratorExp, ast.Div, ast.MatMult,
     ast.Import, ast.AnnAssign, ast.Match, ast.NamedExpr, ast.With, ast.Lambda, ast.Pow, ast.Assert, ast.Nonlocal,
 )
+# Beside these, what a class runs by a sign or as a property: it changes nothing but what it created.
+RUN = DOUBLES - {"__init__", "__call__", "__iter__"}
+CHANGERS = {"append", "clear", "extend", "insert", "pop", "remove", "reverse", "setdefault", "update", "add", "discard"}
 EATERS = {"list", "tuple", "dict", "sorted", "sum", "min", "max", "any", "all", "enumerate", "zip"}
 
 
@@ -68,6 +71,46 @@ def local_names(tree):
 def called(node):
     """The name of the function or method that is called."""
     return node.func.id if isinstance(node.func, ast.Name) else getattr(node.func, "attr", None)
+
+
+def called_or_none(node):
+    return called(node) if isinstance(node, ast.Call) else None
+
+
+def names_called(function):
+    return {called(node) for node in ast.walk(function) if isinstance(node, ast.Call)}
+
+
+def is_property(function):
+    return any(ast.unparse(one) == "property" for one in function.decorator_list)
+
+
+def changed_in(node):
+    """What the node itself changes: the object behind an attribute, an item or a method, or None."""
+    if isinstance(node, (ast.Attribute, ast.Subscript)) and not isinstance(node.ctx, ast.Load):
+        return node.value
+    if isinstance(node, ast.Call) and isinstance(node.func, ast.Attribute) and node.func.attr in CHANGERS:
+        return node.func.value
+    return None
+
+
+def assigned_to(function, name):
+    """All that the function assigns to the name by plain statements."""
+    return [
+        node.value for node in ast.walk(function)
+        if isinstance(node, ast.Assign) for target in node.targets
+        if isinstance(target, ast.Name) and target.id == name
+    ]
+
+
+def is_created(function, node, classes):
+    """Whether the node is a local name that only stands for what the function created."""
+    values = assigned_to(function, node.id) if isinstance(node, ast.Name) else []
+    return bool(values) and all(
+        isinstance(value, (ast.List, ast.Dict, ast.ListComp, ast.DictComp))
+        or isinstance(value, ast.Call) and called(value) in {"list", "dict", *classes}
+        for value in values
+    )
 
 
 class LanguageTests(unittest.TestCase):
@@ -225,6 +268,47 @@ class LanguageTests(unittest.TestCase):
                 parent = node.parent
                 at_once = isinstance(parent, (ast.For, ast.comprehension))
                 self.assertTrue(at_once or isinstance(parent, ast.Call) and called(parent) in EATERS, place)
+
+    def test_what_is_sorted(self):
+        # A class that compares is no part of a set, so what goes through one is sorted as plain values are.
+        for place, node in self.walk(ast.Call):
+            if called(node) == "sorted":
+                self.assertTrue(len(node.args) == 1 and called_or_none(node.args[0]) == "set", place)
+            elif called(node) in ("min", "max"):
+                self.assertIsInstance(node.args[0], ast.ListComp, place)
+                self.assertIn(called_or_none(node.args[0].elt), ("len", "int", "str"), place)
+
+    def test_orders(self):
+        for node in self.classes:
+            names = {part.name for part in node.body if isinstance(part, ast.FunctionDef)}
+            self.assertFalse({"__lt__", "__gt__"} <= names or {"__le__", "__ge__"} <= names, node.name)
+            if "__lt__" in names:
+                self.assertIn("__eq__", names)
+        for place, node in self.walk(ast.Try):
+            for part in [part for line in node.finalbody for part in ast.walk(line)]:
+                self.assertNotIsInstance(part, (ast.BinOp, ast.Compare, ast.Call, ast.If), place)
+
+    def test_what_operators_and_properties_run(self):
+        classes = [node.name for node in self.classes]
+        waiting = [node for node in self.functions if node.name in RUN or is_property(node)]
+        seen = []
+        while waiting:
+            function = waiting.pop()
+            if function in seen:
+                continue
+            seen.append(function)
+            given = {node.arg for node in ast.walk(function.args) if isinstance(node, ast.arg)}
+            self.assertEqual(given & names_called(function), set(), function.name)
+            for node in ast.walk(function):
+                changed = changed_in(node)
+                place = f"{function.name}:{getattr(node, 'lineno', 0)}"
+                if changed is not None and function.name != "__init__":
+                    self.assertTrue(is_created(function, changed, classes), place)
+            wanted = names_called(function)
+            waiting.extend(node for node in self.functions if node.name in wanted)
+            for node in [node for node in self.classes if node.name in wanted]:
+                waiting.extend(part for part in node.body if getattr(part, "name", "") == "__init__")
+        self.assertGreater(len(seen), 30)
 
     def test_sets_are_only_measured_or_sorted(self):
         for place, node in self.walk(ast.Set, ast.SetComp, ast.Call):

@@ -3,7 +3,7 @@
 from handround.differences import difference, needed
 from handround.kinds import rises
 from handround.reaching import row_along, steps_by
-from handround.trades import bar_of, effort_of, moved, trades_in
+from handround.trades import bar_of, effort_of, moved, trades_in, turned_to
 
 
 def is_direct(accepts, begin, goal, row):
@@ -27,8 +27,7 @@ def is_along(whole, ring):
     """Whether all people of the ring are in the whole one, in its cyclic order."""
     if not all([person in whole for person in ring]):
         return False
-    start = whole.index(ring[0])
-    turned = whole[start:] + whole[:start]
+    turned = turned_to(whole, ring[0])
     return rises([turned.index(person) for person in ring])
 
 

@@ -24,9 +24,7 @@ def is_row_paper(thing):
 
 
 def is_closed_paper(thing):
-    if not has_form(thing, "closed", 2) or not isinstance(thing[1], tuple):
-        return False
-    return all([is_tuple_of_pairs(part) for part in thing[1]])
+    return has_form(thing, "closed", 2) and are_pair_tuples(thing[1])
 
 
 def has_form(thing, word, many):
@@ -40,6 +38,11 @@ def are_name_tuples(thing):
 
 def is_tuple_of_names(thing):
     return isinstance(thing, tuple) and are_names(thing)
+
+
+def are_pair_tuples(thing):
+    """Whether it is a tuple of tuples of pairs of names; these need not be holdings."""
+    return isinstance(thing, tuple) and all([is_tuple_of_pairs(part) for part in thing])
 
 
 def is_tuple_of_pairs(thing):

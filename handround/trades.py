@@ -38,6 +38,12 @@ def moved(holding, ring):
     return tuple([(person, got.get(person, item)) for person, item in holding])
 
 
+def turned_to(ring, person):
+    """The same ring, begun with this person of it."""
+    start = ring.index(person)
+    return ring[start:] + ring[:start]
+
+
 def effort_of(row):
     return sum([len(ring) - 1 for ring in row])
 

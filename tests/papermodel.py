@@ -7,7 +7,8 @@ from itertools import combinations
 
 from handround.errors import InvalidPaper
 from tests.samples import (
-    ANY, FIRST, LAST, MORE, THREE, all_holdings, all_steps, circle, full, plain, rings_between, some_accepts, turned,
+    ANY, FIRST, LAST, MORE, THREE, all_holdings, all_steps, circle, full, handed, plain, rings_between, some_accepts,
+    turned,
 )
 
 # None of these is a ring; none of the others a holding of MORE, but all are of the shape that a paper has there.
@@ -285,6 +286,104 @@ def told_reach(accepts, begin, goal, thing, sizes):
     if is_closed(thing):
         return reach_closed_fault(accepts, begin, goal, thing[1], sizes) or ("true", False)
     return ("shape", -1)
+
+
+def is_width(thing):
+    if type(thing) is not tuple or len(thing) != 3:
+        return False
+    return type(thing[0]) is int and thing[0] >= 0 and is_rings(thing[1]) and is_tuple(thing[2], is_pairs)
+
+
+def told_width(accepts, begin, goal, thing):
+    if not is_width(thing):
+        return ("shape", -1)
+    number, rings, holdings = thing
+    if number == 0:
+        return ("number", -1)
+    # No ring of the tests has so many people.
+    sizes = range(2, min(number, 99) + 1)
+    fault = reach_row_fault(accepts, begin, goal, rings, sizes)
+    if fault is None and number == 1:
+        fault = None if holdings == () else ("extra", -1)
+    elif fault is None:
+        fault = reach_closed_fault(accepts, begin, goal, holdings, range(2, min(number - 1, 99) + 1))
+    return fault or ("true", number)
+
+
+# Shortcuts and trees
+
+def along(ring, person, last):
+    """The people from the one to the other, along the ring."""
+    found = (person,)
+    while found[-1] != last:
+        found += (ring[(ring.index(found[-1]) + 1) % len(ring)],)
+    return found
+
+
+def from_least(ring):
+    return min(ring[at:] + ring[:at] for at in range(len(ring)))
+
+
+def shortcuts_by_words(accepts, holding, ring):
+    after = handed(holding, ring)
+    owners = {item: person for person, item in holding}
+    return tuple(
+        (person, item) for person, item in accepts
+        if person in ring and owners[item] in ring and owners[item] != person and after[person] != item
+    )
+
+
+def split_by_words(holding, ring, pair):
+    person, item = pair
+    giver = {held: owner for owner, held in holding}[item]
+    follower = ring[(ring.index(giver) + 1) % len(ring)]
+    before = ring[ring.index(person) - 1]
+    return from_least(along(ring, person, giver)), from_least((person,) + along(ring, follower, before))
+
+
+def all_trees(accepts, holding, ring, sizes):
+    """All trees, each way tried."""
+    found = [("ring",)] if len(ring) in sizes else []
+    for pair in shortcuts_by_words(accepts, holding, ring):
+        first, rest = split_by_words(holding, ring, pair)
+        ones = all_trees(accepts, holding, first, sizes)
+        after = tuple(sorted(handed(holding, first).items()))
+        others = all_trees(accepts, after, rest, sizes) if ones else []
+        found.extend(("split", pair, one, other) for one in ones for other in others)
+    return found
+
+
+def is_tree(thing):
+    if has_word(thing, "ring", 1):
+        return True
+    if not has_word(thing, "split", 4) or not is_names(thing[1]) or len(thing[1]) != 2:
+        return False
+    return is_tree(thing[2]) and is_tree(thing[3])
+
+
+def nodes_of(accepts, holding, ring, tree, sizes):
+    """The word for each node, a fault or None; a node with a fault is the last one."""
+    if tree == ("ring",):
+        return [None if len(ring) in sizes else "size"]
+    _, pair, one, other = tree
+    if pair not in shortcuts_by_words(accepts, holding, ring):
+        return ["shortcut"]
+    first, rest = split_by_words(holding, ring, pair)
+    found = [None] + nodes_of(accepts, holding, first, one, sizes)
+    if found[-1] is None:
+        found += nodes_of(accepts, tuple(sorted(handed(holding, first).items())), rest, other, sizes)
+    return found
+
+
+def leaves_of(tree):
+    return 1 if tree == ("ring",) else leaves_of(tree[2]) + leaves_of(tree[3])
+
+
+def told_split(accepts, holding, ring, thing, sizes):
+    if not is_tree(thing):
+        return ("shape", -1)
+    words = nodes_of(accepts, holding, ring, thing, sizes)
+    return ("true", leaves_of(thing)) if words[-1] is None else (words[-1], len(words) - 1)
 
 
 def told(function, *given, **named):
